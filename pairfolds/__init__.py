@@ -1,0 +1,1 @@
+"""Pairfolds: strings folded by pairs of their letters."""

@@ -1,0 +1,28 @@
+"""Strings of the letters of rules, and which of their places may pair."""
+
+from pairfolds.errors import NoString
+from pairfolds.rules import pair_worth
+
+MOST_PLACES = 12
+
+
+def is_string(rules, thing):
+    """Whether it is a string of the rules, whatever it is."""
+    if not isinstance(thing, str) or len(thing) > MOST_PLACES:
+        return False
+    return all([letter in rules[0] for letter in thing])
+
+
+def need_string(rules, thing):
+    """Refuse with NoString whatever is no string of the rules."""
+    if not is_string(rules, thing):
+        raise NoString("no string of the rules")
+
+
+def may_pair(rules, string, i, j):
+    """Whether the places i and j may pair, i the lesser one."""
+    if not 0 <= i < j < len(string):
+        return False
+    if j - i - 1 < rules[2]:
+        return False
+    return pair_worth(rules, string[i] + string[j]) is not None

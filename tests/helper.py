@@ -1,0 +1,181 @@
+"""Rules to test with, things of all kinds, and a plain reckoning by lists of all foldings.
+
+Nothing here goes by the package: what it tells is held against this.
+"""
+
+import copy
+import inspect
+
+NO_WORTHS = (0,) * 9
+
+# Each worth is unlike the others, so that none can stand in for another one.
+ODD = (
+    "abc",
+    (("aa", -3), ("ab", -17), ("ba", 5), ("cb", -29)),
+    0,
+    (-7, 11, 2, -13, -19, 1, 4, 3, -1),
+    (("ab", "ab", -31), ("ab", "ba", 23), ("ba", "ab", -37), ("cb", "aa", 41)),
+)
+SPANNED = ("abc", (("ab", -20), ("ac", -9), ("bb", -11)), 1, (-5, 3, 1, 2, -6, 1, 7, -2, 3), (("ab", "ac", -8),))
+WIDE = ("ab", (("ab", -8), ("ba", -9)), 3, (-1, -2, 3, 4, 5, 6, -7, 8, 9), (("ab", "ba", 10), ("ba", "ab", -11)))
+ONE_LETTER = ("a", (("aa", -2),), 0, (-1, 1, 0, 3, -4, 1, 2, 0, -1), (("aa", "aa", -2),))
+FORKING = ("ab", (("aa", 1), ("ab", 2)), 0, (9, 8, 7, -40, -25, -2, 1, 5, 6), ())
+NO_PAIRS = ("ab", (), 0, (1, 2, 3, 4, 5, 6, 7, 8, 9), ())
+DEAR = ("ab", (("ab", 99), ("ba", 98)), 0, (99, 98, 97, 96, 95, 94, 93, 92, 91), (("ab", "ba", 99),))
+CHEAP = ("ab", (("ab", -99), ("ba", -98)), 0, (-99, -98, -97, -96, -95, -94, -93, -92, -91), (("ab", "ba", -99),))
+ALL_RULES = (ODD, SPANNED, WIDE, ONE_LETTER, FORKING, NO_PAIRS, DEAR, CHEAP)
+
+
+def deep(times):
+    thing = ()
+    for at in range(times):
+        thing = (thing,) if at < times // 2 else [thing]
+    return thing
+
+
+# Things of all kinds, none of which is a string, rules, a folding with pairs or a table.
+WHATEVER = (
+    None, True, False, -1, 0, 1, 10 ** 99, -10 ** 99, "Z", "?", " ", "(", "\u00e9", "ab\n", (None,), (True, False),
+    ((0,),), ((0, 1, 2),), ([0, 1],), ({},), [], [()], [[]], [None], [("open", 0, -1)], {}, {"a": 1}, {0: [1]},
+    {"letters": "a"}, deep(12), ["a"], ("a",), ("ab", 1), [0] * 4999, "z" * 4999, ((),),
+)
+
+
+def all_texts(letters, length):
+    texts = [""]
+    for turn in range(length):
+        texts = [text + letter for text in texts for letter in letters]
+    return texts
+
+
+def some_texts(letters, length, many):
+    """Texts that look mixed, the same ones each time."""
+    texts = []
+    seed = 12345
+    for turn in range(many):
+        text = ""
+        for place in range(length):
+            seed = (seed * 1103515245 + 12345) & 0x7FFFFFFF
+            text += letters[(seed >> 16) % len(letters)]
+        texts.append(text)
+    return texts
+
+
+def strings_for(rules):
+    """All strings of at most four letters, and some longer ones."""
+    strings = [text for length in range(5) for text in all_texts(rules[0], length)]
+    for length in (5, 6, 7):
+        strings += some_texts(rules[0], length, 4)
+    return strings
+
+
+def can_pair(rules, string, i, j):
+    return 0 <= i < j < len(string) and j - i - 1 >= rules[2] and string[i] + string[j] in dict(rules[1])
+
+
+def every_folding(rules, string):
+    """All foldings, rising: each set of pairs is put together and looked at pair by pair."""
+    places = range(len(string))
+    pairs = [(i, j) for i in places for j in places if can_pair(rules, string, i, j)]
+    found = [()]
+    for pair in pairs:
+        found += [folding + (pair,) for folding in found if all(stands_with(pair, other) for other in folding)]
+    return sorted(found)
+
+
+def stands_with(pair, other):
+    if set(pair) & set(other):
+        return False
+    (i, j), (p, q) = sorted((pair, other))
+    return not i < p < j < q
+
+
+def covers(pair, other):
+    return pair[0] < other[0] and other[1] < pair[1]
+
+
+def children(folding, pair):
+    inside = [other for other in folding if pair is None or covers(pair, other)]
+    return [other for other in inside if not any(covers(third, other) for third in inside)]
+
+
+def plain_loop(rules, string, folding, pair):
+    """(kind, free, worth) of the loop of a pair, place by place."""
+    within = children(folding, pair)
+    free = [
+        place for place in range(pair[0] + 1, pair[1])
+        if not any(p <= place <= q for p, q in within)
+    ]
+    stacked, inner, inner_free, forked, branch, fork_free, lone, lone_free, outside = rules[3]
+    if not within:
+        return "lone", len(free), lone + len(free) * lone_free
+    if len(within) > 1:
+        return "forked", len(free), forked + len(within) * branch + len(free) * fork_free
+    if free:
+        return "inner", len(free), inner + len(free) * inner_free
+    texts = (string[pair[0]] + string[pair[1]], string[within[0][0]] + string[within[0][1]])
+    told = {(outer, inside): worth for outer, inside, worth in rules[4]}
+    return "stacked", 0, stacked + told.get(texts, 0)
+
+
+def shut_worth(rules, string, folding):
+    """The worth of all pairs and their loops, without open."""
+    total = 0
+    for i, j in folding:
+        total += dict(rules[1])[string[i] + string[j]] + plain_loop(rules, string, folding, (i, j))[2]
+    return total
+
+
+def plain_worth(rules, string, folding):
+    return shut_worth(rules, string, folding) + rules[3][8] * len(children(folding, None))
+
+
+def fork_worth(rules, string, folding):
+    """The worth of a folding of a stretch that lies in a fork."""
+    outermost = children(folding, None)
+    free = len(string) - sum(j - i + 1 for i, j in outermost)
+    return shut_worth(rules, string, folding) + len(outermost) * rules[3][4] + free * rules[3][5]
+
+
+def least_or_none(worths):
+    return min(worths) if worths else None
+
+
+def plain_table(rules, string):
+    """The table of point 7, each row by a list of all foldings of its places."""
+    size = len(string)
+    rows = []
+    for i in range(size + 1):
+        rest = string[i:]
+        rows.append(("open", i, size - 1, min(plain_worth(rules, rest, f) for f in every_folding(rules, rest))))
+        for j in range(i, size):
+            part = string[i:j + 1]
+            listed = every_folding(rules, part)
+            forks = [(len(children(f, None)), fork_worth(rules, part, f)) for f in listed]
+            rows.append(("one", i, j, least_or_none([worth for many, worth in forks if many >= 1])))
+            rows.append(("two", i, j, least_or_none([worth for many, worth in forks if many >= 2])))
+            if i < j:
+                shuts = [shut_worth(rules, part, f) for f in listed if (0, j - i) in f]
+                rows.append(("shut", i, j, least_or_none(shuts)))
+    return sorted(rows, key=lambda row: row[:3])
+
+
+def names_of(function):
+    """The names of the arguments by place, and of those by name alone with what stands for them."""
+    places, named = [], {}
+    for name, argument in inspect.signature(function).parameters.items():
+        if argument.kind == argument.KEYWORD_ONLY:
+            named[name] = argument.default
+        else:
+            assert argument.kind == argument.POSITIONAL_OR_KEYWORD and argument.default == argument.empty
+            places.append(name)
+    return places, named
+
+
+def ask_both_ways(test, function, **handed):
+    """What is told by places, held against what is told by names; what is handed in stays as it was."""
+    before = copy.deepcopy(handed)
+    told = function(*handed.values())
+    test.assertEqual(told, function(**handed))
+    test.assertEqual(repr(handed), repr(before))
+    return told

@@ -1,0 +1,101 @@
+"""Looks through the package's files for what the Python subset of this project leaves out."""
+
+import ast
+import pathlib
+import re
+import unittest
+
+PACKAGE = pathlib.Path(__file__).resolve().parent.parent / "pairfolds"
+FILES = sorted(path for path in PACKAGE.rglob("*.py"))
+BARRED_WORDS = re.compile(
+    r"\b(type|typing|typing_extensions|enum|Enum|IntEnum|StrEnum|Flag|IntFlag|Generic|Protocol|ABC|ABCMeta"
+    r"|namedtuple|NamedTuple|TypedDict|TYPE_CHECKING|abstractmethod)\b|dataclass|overload|contextmanager"
+)
+BARRED_NAMES = {"register", "mro", "elements", "open", "input", "law", "version_info", "with_traceback", "add_note"}
+BUILTINS = {
+    "len", "range", "enumerate", "zip", "min", "max", "sum", "abs", "sorted", "reversed", "int", "str", "bool",
+    "list", "tuple", "dict", "set", "isinstance", "ord", "repr", "any", "all", "divmod", "super", "iter", "next",
+    "ValueError", "KeyError", "IndexError",
+}
+BARRED_NODES = (ast.Global, ast.AsyncFunctionDef, ast.AsyncFor, ast.AsyncWith, ast.Await, ast.Div, ast.MatMult)
+ALL_BUILTINS = set(dir(__builtins__)) if not isinstance(__builtins__, dict) else set(__builtins__)
+
+
+def bound_names(tree):
+    for node in ast.walk(tree):
+        if isinstance(node, (ast.FunctionDef, ast.ClassDef)):
+            yield node.name
+        elif isinstance(node, ast.arg):
+            yield node.arg
+        elif isinstance(node, ast.Name) and isinstance(node.ctx, ast.Store):
+            yield node.id
+
+
+class LanguageTest(unittest.TestCase):
+
+    def test_nothing_but_files_of_python(self):
+        self.assertTrue(FILES)
+        for path in PACKAGE.iterdir():
+            self.assertTrue(path.suffix == ".py" or path.name == "__pycache__", path)
+
+    def test_lines(self):
+        for path in FILES:
+            text = path.read_text(encoding="utf-8")
+            lines = text.splitlines()
+            self.assertLessEqual(len(lines), 399, path)
+            self.assertLessEqual(max(len(line) for line in lines), 120, path)
+            self.assertEqual([sign for sign in text if sign != "\n" and not " " <= sign <= "~"], [], path)
+            self.assertIsNone(BARRED_WORDS.search(text), path)
+
+    def test_functions_are_short(self):
+        for path in FILES:
+            for node in ast.walk(ast.parse(path.read_text())):
+                if isinstance(node, ast.FunctionDef):
+                    self.assertLessEqual(node.end_lineno - node.lineno + 1, 40, (path, node.name))
+                    self.assertEqual(node.args.posonlyargs, [], (path, node.name))
+
+    def test_imports(self):
+        for path in FILES:
+            for node in ast.walk(ast.parse(path.read_text())):
+                self.assertNotIsInstance(node, ast.Import, path)
+                if isinstance(node, ast.ImportFrom):
+                    self.assertTrue(node.level == 0 and node.module.startswith("pairfolds."), (path, node.module))
+
+    def test_no_files_import_from_each_other(self):
+        needs = {}
+        for path in FILES:
+            nodes = [node for node in ast.walk(ast.parse(path.read_text())) if isinstance(node, ast.ImportFrom)]
+            needs[path.stem] = {node.module.split(".")[1] for node in nodes}
+        while needs:
+            done = [name for name in needs if not needs[name] & set(needs)]
+            self.assertTrue(done, needs)
+            needs = {name: needs[name] for name in needs if name not in done}
+
+    def test_names(self):
+        for path in FILES:
+            for name in bound_names(ast.parse(path.read_text())):
+                if not re.fullmatch(r"__(init|eq|len|repr|str)__", name):
+                    self.assertRegex(name, r"\A[A-Za-z][A-Za-z0-9_]*\Z", path)
+                self.assertNotIn(name, BARRED_NAMES | ALL_BUILTINS, path)
+
+    def test_parts_of_the_language(self):
+        for path in FILES:
+            for node in ast.walk(ast.parse(path.read_text())):
+                self.assertNotIsInstance(node, BARRED_NODES, path)
+                if isinstance(node, ast.Constant):
+                    self.assertNotIsInstance(node.value, (float, complex), path)
+                    self.assertNotIn("%", str(node.value), path)
+                if isinstance(node, ast.Name) and node.id in ALL_BUILTINS:
+                    self.assertIn(node.id, BUILTINS, (path, node.lineno))
+
+    def test_is_stands_with_truths_and_none_alone(self):
+        for path in FILES:
+            for node in ast.walk(ast.parse(path.read_text())):
+                if isinstance(node, ast.Compare) and any(isinstance(op, (ast.Is, ast.IsNot)) for op in node.ops):
+                    right = node.comparators[-1]
+                    self.assertIsInstance(right, ast.Constant, (path, node.lineno))
+                    self.assertIn(right.value, (None, True, False), (path, node.lineno))
+
+
+if __name__ == "__main__":
+    unittest.main()
