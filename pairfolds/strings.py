@@ -19,10 +19,15 @@ def need_string(rules, thing):
         raise NoString("no string of the rules")
 
 
+def text_of(string, pair):
+    """The text of both letters of a pair."""
+    return string[pair[0]] + string[pair[1]]
+
+
 def may_pair(rules, string, i, j):
     """Whether the places i and j may pair, i the lesser one."""
     if not 0 <= i < j < len(string):
         return False
     if j - i - 1 < rules[2]:
         return False
-    return pair_worth(rules, string[i] + string[j]) is not None
+    return pair_worth(rules, text_of(string, (i, j))) is not None

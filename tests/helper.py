@@ -179,3 +179,85 @@ def ask_both_ways(test, function, **handed):
     test.assertEqual(told, function(**handed))
     test.assertEqual(repr(handed), repr(before))
     return told
+
+
+def refuses_no_string(test, tell, error):
+    """That what tells of (rules, string) refuses whatever is no string, by place and by name."""
+    for thing in WHATEVER + ("abd", "a" * 13, ["a", "b"], ("a",), None, 5, [], (), "A"):
+        with test.assertRaises(error):
+            tell(ODD, thing)
+    with test.assertRaises(error):
+        tell(rules=ODD, string="xyz")
+
+
+NO_WORTH = float("inf")
+
+
+def plain_ways(rules, string, rows, row):
+    """What each way of point 8 comes to by the rows, a dict of worths by (kind, i, j)."""
+    kind, i, j = row
+    stacked, inner, inner_free, forked, branch, fork_free, lone, lone_free, outside = rules[3]
+
+    def told(name, p, q):
+        worth = rows.get((name, p, q))
+        return NO_WORTH if worth is None else worth
+
+    if kind == "one":
+        ways = [fork_free + told("one", i + 1, j)]
+        ways += [branch + told("shut", i, k) + fork_free * (j - k) for k in range(i + 1, j + 1)]
+        return ways + [branch + told("shut", i, k) + told("one", k + 1, j) for k in range(i + 1, j + 1)]
+    if kind == "two":
+        ways = [fork_free + told("two", i + 1, j)]
+        return ways + [branch + told("shut", i, k) + told("one", k + 1, j) for k in range(i + 1, j + 1)]
+    if kind == "open":
+        if i == len(string):
+            return [0]
+        ways = [outside + told("shut", i, k) + told("open", k + 1, j) for k in range(i + 1, j + 1)]
+        return ways + [told("open", i + 1, j)]
+    if not can_pair(rules, string, i, j):
+        return []
+    stacks = {(outer, within): worth for outer, within, worth in rules[4]}
+    ways = [lone + lone_free * (j - i - 1), forked + told("two", i + 1, j - 1)]
+    for p in range(i + 1, j):
+        for q in range(p + 1, j):
+            free = p - i - 1 + j - q - 1
+            stack = stacked + stacks.get((string[i] + string[j], string[p] + string[q]), 0)
+            ways.append((inner + free * inner_free if free else stack) + told("shut", p, q))
+    return [dict(rules[1])[string[i] + string[j]] + way for way in ways]
+
+
+def all_rows(length):
+    """All rows of point 7 by (kind, i, j), rising."""
+    places = range(length)
+    rows = [("shut", i, j) for i in places for j in places if i < j]
+    rows += [(kind, i, j) for kind in ("one", "two") for i in places for j in places if i <= j]
+    return sorted(rows + [("open", i, length - 1) for i in range(length + 1)])
+
+
+def are_plain_bounds(rules, string, table):
+    """Whether a list of all rows is bounds, each way looked at."""
+    rows = {row[:3]: row[3] for row in table}
+    for row in rows:
+        worth = NO_WORTH if rows[row] is None else rows[row]
+        if any(worth > way for way in plain_ways(rules, string, rows, row)):
+            return False
+    return True
+
+
+def bounds_by(rules, string, chosen):
+    """Bounds whose rows without a way have the chosen worths, in turn; the others are as great as they can be."""
+    rows = {}
+    left = list(chosen)
+    for i in range(len(string), -1, -1):
+        for row in sorted((row for row in all_rows(len(string)) if row[1] == i), key=in_turn):
+            ways = plain_ways(rules, string, rows, row)
+            least = min(ways, default=NO_WORTH)
+            if least == NO_WORTH:
+                left.append(left.pop(0))
+                least = left[-1]
+            rows[row] = least
+    return [row + (rows[row],) for row in all_rows(len(string))]
+
+
+def in_turn(row):
+    return row[2], ("shut", "one", "two", "open").index(row[0])
