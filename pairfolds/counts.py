@@ -1,6 +1,7 @@
 """How many foldings a string has, how many of each worth, and all of them."""
 
 from pairfolds.bounds import rows_in_turn, ways_of, whole_row
+from pairfolds.loops import worth_of
 from pairfolds.strings import may_pair, need_string
 
 
@@ -39,11 +40,21 @@ def worth_tally(rules, string):
     return tallies[whole_row(string)]
 
 
+def stretch_counts(rules, string):
+    """How many foldings the places i to j have by themselves, by (i, j); j is i - 1 where there are none."""
+    length = len(string)
+    made = {(i, i - 1): 1 for i in range(length + 1)}
+    for i in range(length - 1, -1, -1):
+        for j in range(i, length):
+            ends = [k for k in range(i + 1, j + 1) if may_pair(rules, string, i, k)]
+            made[i, j] = made[i + 1, j] + sum([made[i + 1, k - 1] * made[k + 1, j] for k in ends])
+    return made
+
+
 def how_many(rules, string):
     """How many foldings the string has."""
     need_string(rules, string)
-    tally = worth_tally(rules, string)
-    return sum(tally.values())
+    return stretch_counts(rules, string)[0, len(string) - 1]
 
 
 def by_worths(rules, string):
@@ -72,3 +83,8 @@ def all_foldings(rules, string):
         for j in range(i, length):
             told[i, j] = stretch_foldings(rules, string, i, j, told)
     return sorted(told[0, length - 1])
+
+
+def with_worths(rules, string):
+    """All foldings of the string as tuples (worth, folding), rising."""
+    return sorted([(worth_of(rules, string, folding), folding) for folding in all_foldings(rules, string)])

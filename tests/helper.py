@@ -130,6 +130,11 @@ def plain_worth(rules, string, folding):
     return shut_worth(rules, string, folding) + rules[3][8] * len(children(folding, None))
 
 
+def listed_with_worths(rules, string):
+    """All foldings in the order (worth, folding), as such tuples."""
+    return sorted((plain_worth(rules, string, folding), folding) for folding in every_folding(rules, string))
+
+
 def fork_worth(rules, string, folding):
     """The worth of a folding of a stretch that lies in a fork."""
     outermost = children(folding, None)
@@ -167,18 +172,39 @@ def names_of(function):
         if argument.kind == argument.KEYWORD_ONLY:
             named[name] = argument.default
         else:
-            assert argument.kind == argument.POSITIONAL_OR_KEYWORD and argument.default == argument.empty
-            places.append(name)
+            assert argument.kind == argument.POSITIONAL_OR_KEYWORD
+            places.append(name if argument.default is argument.empty else f"{name}={argument.default!r}")
     return places, named
 
 
 def ask_both_ways(test, function, **handed):
     """What is told by places, held against what is told by names; what is handed in stays as it was."""
     before = copy.deepcopy(handed)
-    told = function(*handed.values())
+    alone = names_of(function)[1]
+    named = {name: handed[name] for name in handed if name in alone}
+    told = function(*[handed[name] for name in handed if name not in alone], **named)
     test.assertEqual(told, function(**handed))
     test.assertEqual(repr(handed), repr(before))
     return told
+
+
+def stays_as_told(test, function, *handed, **named):
+    """That a told list may be changed without a change to what is told later."""
+    told = function(*handed, **named)
+    before = copy.deepcopy(told)
+    test.assertIsInstance(told, list)
+    told.append(None)
+    told[0] = 5
+    test.assertEqual(function(*handed, **named), before)
+
+
+def kinds_in(thing):
+    """The kinds of all things within, so that nothing but plain ones is let by."""
+    found = {type(thing)}
+    if isinstance(thing, (list, tuple)):
+        for part in thing:
+            found |= kinds_in(part)
+    return found
 
 
 def refuses_no_string(test, tell, error):
