@@ -94,9 +94,9 @@ def comes_to(way, worths):
     return None if None in told else worth + sum(told)
 
 
-def least_way(rules, string, row, worths):
+def least_way(ways, worths):
     """The least that the ways of a row come to by the worths of rows, or None."""
-    told = [comes_to(way, worths) for way in ways_of(rules, string, row)]
+    told = [comes_to(way, worths) for way in ways]
     return min([worth for worth in told if worth is not None], default=None)
 
 
@@ -124,4 +124,4 @@ def lets_bounds(rules, string, thing):
     if not is_string(rules, string) or not is_table(len(string), thing):
         return False
     worths = {row[:3]: row[3] for row in thing}
-    return all([is_at_most(worths[row], least_way(rules, string, row, worths)) for row in worths])
+    return all([is_at_most(worths[row], least_way(ways_of(rules, string, row), worths)) for row in worths])

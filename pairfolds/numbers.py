@@ -41,7 +41,8 @@ def folding_of(rules, string, number):
     while ahead > 0:
         # The folding that ends here comes ahead of all that go on.
         ahead -= 1
-        for pair, behind in next_pairs(rules, string, stretches):
+        following = next_pairs(rules, string, stretches)
+        for pair, behind in following:
             many = many_in(counts, behind)
             if ahead < many:
                 folding += (pair,)
@@ -61,7 +62,8 @@ def number_of(rules, string, folding):
     number = 0
     for pair in folding:
         number += 1
-        for other, behind in next_pairs(rules, string, stretches):
+        following = next_pairs(rules, string, stretches)
+        for other, behind in following:
             if other == pair:
                 stretches = behind
                 break

@@ -25,6 +25,16 @@ DEAR = ("ab", (("ab", 99), ("ba", 98)), 0, (99, 98, 97, 96, 95, 94, 93, 92, 91),
 CHEAP = ("ab", (("ab", -99), ("ba", -98)), 0, (-99, -98, -97, -96, -95, -94, -93, -92, -91), (("ab", "ba", -99),))
 ALL_RULES = (ODD, SPANNED, WIDE, ONE_LETTER, FORKING, NO_PAIRS, DEAR, CHEAP)
 
+# Strings of eight and of ten letters, with the rules that they are of.
+EIGHT = (
+    (ODD, "abacbaab"), (ODD, "cccbaabb"), (SPANNED, "abacabcb"), (WIDE, "abababab"), (NO_PAIRS, "abababab"),
+    (FORKING, "aababbbb"), (DEAR, "aabbabbb"), (CHEAP, "abababba"), (ONE_LETTER, "aaaaaaaa"),
+)
+TEN = (
+    (ODD, "abacbaabcb"), (ODD, "cccbaabbaa"), (SPANNED, "abacabcbab"), (WIDE, "ababababab"), (NO_PAIRS, "ababababab"),
+    (FORKING, "aababbbabb"), (DEAR, "aabbabbbab"), (CHEAP, "abababbaab"), (ONE_LETTER, "aaaaaaaaaa"),
+)
+
 
 def deep(times):
     thing = ()
@@ -133,6 +143,19 @@ def plain_worth(rules, string, folding):
 def listed_with_worths(rules, string):
     """All foldings in the order (worth, folding), as such tuples."""
     return sorted((plain_worth(rules, string, folding), folding) for folding in every_folding(rules, string))
+
+
+def keeping(listed, holds):
+    """Those of listed foldings with their worths that keep the holds."""
+    free, pairs = holds
+    return [
+        (worth, folding) for worth, folding in listed
+        if set(pairs) <= set(folding) and not any(place in free for pair in folding for place in pair)
+    ]
+
+
+def as_share(fraction):
+    return fraction.numerator, fraction.denominator
 
 
 def fork_worth(rules, string, folding):
@@ -287,3 +310,53 @@ def bounds_by(rules, string, chosen):
 
 def in_turn(row):
     return row[2], ("shut", "one", "two", "open").index(row[0])
+
+
+def are_a_step_apart(folding, other):
+    return len(set(folding) ^ set(other)) == 1
+
+
+class Land:
+    """All foldings of a string with their worths and steps, by lists alone."""
+
+    def __init__(self, rules, string):
+        self.rules, self.string = rules, string
+        self.foldings = every_folding(rules, string)
+        self.worths = {folding: plain_worth(rules, string, folding) for folding in self.foldings}
+        self.steps = {
+            folding: [other for other in self.foldings if are_a_step_apart(folding, other)] for folding in self.foldings
+        }
+
+    def reached(self, folding, height):
+        """All foldings worth less than the height to which a way leads that has no other ones."""
+        found = {folding} if self.worths[folding] < height else set()
+        waiting = list(found)
+        while waiting:
+            for after in self.steps[waiting.pop()]:
+                if after not in found and self.worths[after] < height:
+                    found.add(after)
+                    waiting.append(after)
+        return found
+
+    def lowest_ridge(self, folding, other):
+        """The lowest height at which the two hang together, each height tried in turn."""
+        for height in sorted(set(self.worths.values())):
+            if other in self.reached(folding, height + 1):
+                return height
+
+    def is_wall(self, folding, other, height, thing):
+        if not thing:
+            return self.worths[folding] >= height
+        members = set(thing)
+        return (
+            folding in members and other not in members and thing == sorted(members)
+            and all(self.worths[member] < height for member in thing)
+            and all(step in members or self.worths[step] >= height for member in thing for step in self.steps[member])
+        )
+
+
+def some_pairs(foldings, many):
+    """Some (folding, other), the same ones each time, one with itself among them."""
+    size = len(foldings)
+    told = [(foldings[at * 7919 % size], foldings[(at * 104729 + size // 2) % size]) for at in range(many)]
+    return told + [(foldings[-1], foldings[-1]), (foldings[0], foldings[-1]), (foldings[-1], foldings[0])]

@@ -5,14 +5,11 @@ from pairfolds import counts as counts_file
 from pairfolds.counts import all_foldings, by_worths, how_many
 from pairfolds.errors import NoString
 from pairfolds.rules import rules_of
-from tests.helper import ALL_RULES, CHEAP, DEAR, FORKING, NO_PAIRS, ODD, ONE_LETTER, SPANNED, WIDE
-from tests.helper import ask_both_ways, every_folding, names_of, plain_worth, refuses_no_string, some_texts, strings_for
+from tests.helper import ALL_RULES, ODD, TEN
+from tests.helper import ask_both_ways, every_folding, names_of, plain_worth, refuses_no_string, some_texts
+from tests.helper import strings_for
 
 TELLING = (how_many, by_worths, all_foldings)
-TEN = (
-    (ODD, "abacbaabcb"), (ODD, "cccbaabbaa"), (SPANNED, "abacabcbab"), (WIDE, "ababababab"), (NO_PAIRS, "ababababab"),
-    (FORKING, "aababbbabb"), (DEAR, "aabbabbbab"), (CHEAP, "abababbaab"), (ONE_LETTER, "aaaaaaaaaa"),
-)
 
 
 class CountsTest(unittest.TestCase):

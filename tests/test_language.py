@@ -78,6 +78,21 @@ class LanguageTest(unittest.TestCase):
                     self.assertRegex(name, r"\A[A-Za-z][A-Za-z0-9_]*\Z", path)
                 self.assertNotIn(name, BARRED_NAMES | ALL_BUILTINS, path)
 
+    def test_no_variable_has_the_name_of_an_import(self):
+        for path in FILES:
+            tree = ast.parse(path.read_text())
+            nodes = [node for node in ast.walk(tree) if isinstance(node, ast.ImportFrom)]
+            imported = [alias.asname or alias.name for node in nodes for alias in node.names]
+            self.assertEqual(sorted(set(imported)), sorted(imported), path)
+            self.assertEqual(set(imported) & set(bound_names(tree)), set(), path)
+            used = {node.id for node in ast.walk(tree) if isinstance(node, ast.Name)}
+            self.assertEqual(set(imported) - used, set(), path)
+
+    def test_no_power_by_a_variable(self):
+        for path in FILES:
+            for node in ast.walk(ast.parse(path.read_text())):
+                self.assertNotIsInstance(node, ast.Pow, path)
+
     def test_parts_of_the_language(self):
         for path in FILES:
             for node in ast.walk(ast.parse(path.read_text())):

@@ -4,15 +4,11 @@ from pairfolds import near as near_file
 from pairfolds.errors import NoString
 from pairfolds.near import gap, how_near, kinds, near
 from pairfolds.rules import rules_of
-from tests.helper import ALL_RULES, CHEAP, DEAR, FORKING, NO_PAIRS, ODD, ONE_LETTER, SPANNED, WIDE
+from tests.helper import ALL_RULES, FORKING, ODD, ONE_LETTER, SPANNED, TEN
 from tests.helper import ask_both_ways, kinds_in, listed_with_worths, names_of, plain_loop, refuses_no_string
 from tests.helper import some_texts, stays_as_told, strings_for
 
 TELLING = (near, how_near, kinds)
-TEN = (
-    (ODD, "abacbaabcb"), (ODD, "cccbaabbaa"), (SPANNED, "abacabcbab"), (WIDE, "ababababab"), (NO_PAIRS, "ababababab"),
-    (FORKING, "aababbbabb"), (DEAR, "aabbabbbab"), (CHEAP, "abababbaab"), (ONE_LETTER, "aaaaaaaaaa"),
-)
 
 
 def plain_kinds(rules, string, rows):

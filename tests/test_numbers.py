@@ -4,13 +4,9 @@ from pairfolds import numbers as numbers_file
 from pairfolds.errors import FoldError, NoFolding, NoNumber, NoString
 from pairfolds.numbers import folding_of, number_of
 from pairfolds.rules import rules_of
-from tests.helper import ALL_RULES, CHEAP, NO_PAIRS, ODD, ONE_LETTER, SPANNED, WHATEVER, WIDE
+from tests.helper import ALL_RULES, ODD, SPANNED, TEN, WHATEVER
 from tests.helper import ask_both_ways, every_folding, kinds_in, names_of, refuses_no_string, some_texts, strings_for
 
-TEN = (
-    (ODD, "abacbaabcb"), (SPANNED, "abacabcbab"), (WIDE, "ababababab"), (NO_PAIRS, "ababababab"),
-    (CHEAP, "abababbaab"), (ONE_LETTER, "aaaaaaaaaa"),
-)
 NO_NUMBERS = (
     -1, -2, 10 ** 99, -10 ** 99, 10 ** 100 - 1, True, False, None, "", "0", "1", (), (0,), [], [0], {}, {0: 0}, ((0, 1),),
 )

@@ -4,14 +4,10 @@ import unittest
 
 from pairfolds import shares as shares_file
 from pairfolds.shares import over, plus, share_of, times
-from tests.helper import ask_both_ways, kinds_in, names_of
+from tests.helper import as_share, ask_both_ways, kinds_in, names_of
 
 NUMBERS = tuple(range(-12, 13)) + (36, -36, 97, -97, 1001, 2 ** 70, -(2 ** 70), 10 ** 30 * 6, 3 ** 40 * 4)
 SHARES = ((0, 1), (1, 1), (-1, 1), (2, 3), (-2, 3), (5, 6), (-7, 4), (9, 1), (-12, 35), (1, 10 ** 20), (10 ** 20, 9))
-
-
-def as_share(fraction):
-    return fraction.numerator, fraction.denominator
 
 
 class SharesTest(unittest.TestCase):

@@ -5,20 +5,12 @@ from pairfolds import weights as weights_file
 from pairfolds.errors import NoString
 from pairfolds.rules import rules_of
 from pairfolds.weights import free_shares, pair_shares, weight
-from tests.helper import ALL_RULES, CHEAP, DEAR, FORKING, NO_PAIRS, ODD, ONE_LETTER, SPANNED, WIDE
-from tests.helper import ask_both_ways, kinds_in, listed_with_worths, names_of, refuses_no_string, some_texts
-from tests.helper import stays_as_told, strings_for
+from tests.helper import ALL_RULES, EIGHT, FORKING, ODD, ONE_LETTER, SPANNED
+from tests.helper import as_share, ask_both_ways, kinds_in, listed_with_worths, names_of, refuses_no_string
+from tests.helper import some_texts, stays_as_told, strings_for
 
 TELLING = (weight, pair_shares, free_shares)
 BASES = ((1, 1), (2, 1), (1, 2), (3, 2), (5, 7), (99, 100), (9999, 1000), (7, 9998))
-EIGHT = (
-    (ODD, "abacbaab"), (ODD, "cccbaabb"), (SPANNED, "abacabcb"), (WIDE, "abababab"), (NO_PAIRS, "abababab"),
-    (FORKING, "aababbbb"), (DEAR, "aabbabbb"), (CHEAP, "abababba"), (ONE_LETTER, "aaaaaaaa"),
-)
-
-
-def as_share(fraction):
-    return fraction.numerator, fraction.denominator
 
 
 def plain_weights(rules, string, base):
