@@ -2,18 +2,31 @@
 
 from pairfolds.counts import with_worths
 from pairfolds.foldings import is_folding
-from pairfolds.holds import are_places, keeps_free, least_held, least_kept
+from pairfolds.holds import are_places, can_be_kept, keeps_free, worths_beside
 from pairfolds.loops import worth_of
+from pairfolds.quick import QuickTable
 from pairfolds.rules import is_row, is_whole
+
+
+def with_loops_twice(rules):
+    """The rules with loops and stacks of twice their worths."""
+    letters, pairs, span, loops, stacks = rules
+    doubled = tuple([(outer, within, 2 * worth) for outer, within, worth in stacks])
+    return letters, pairs, span, tuple([2 * worth for worth in loops]), doubled
 
 
 def is_forced(rules, string, pair, holds):
     """Whether each least folding of those that keep the holds has the pair, and there is one."""
-    least = least_held(rules, string, holds)
-    if least is None:
+    if not can_be_kept(rules, string, holds):
         return False
-    other = least_kept(rules, string, holds, pair)
-    return other is None or other[0] > least[0]
+    worths = worths_beside(rules, string, holds)
+    if pair not in worths:
+        return False
+    # All is taken twice, and the pair for one more: so a folding without it goes ahead of those with it that were
+    # worth as much, and the least is odd only where there is none.
+    doubled = {other: 2 * worths[other] for other in worths}
+    doubled[pair] += 1
+    return QuickTable(with_loops_twice(rules), string, doubled).whole() % 2 == 1
 
 
 def sets_beside(string, pair):

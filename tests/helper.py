@@ -71,6 +71,25 @@ def some_texts(letters, length, many):
     return texts
 
 
+def some_rules(draw, most_letters=6, worths=None):
+    """Rules drawn by a source that tells the same each time, with worths from 1, 3 or 99 below 0 to as much above."""
+    letters = "".join(sorted(draw.sample("abcdefgh", draw.randint(1, most_letters))))
+    most = worths or draw.choice((1, 3, 99))
+
+    def chosen(texts):
+        return sorted(draw.sample(texts, min(len(texts), draw.randint(0, 12))))
+
+    def worth():
+        return draw.randint(-most, most)
+
+    both = chosen([first + second for first in letters for second in letters])
+    stacks = chosen([(outer, within) for outer in both for within in both])
+    return (
+        letters, tuple((text, worth()) for text in both), draw.choice((0, 0, 1, 2, 3)),
+        tuple(worth() for word in range(9)), tuple((outer, within, worth()) for outer, within in stacks),
+    )
+
+
 def strings_for(rules):
     """All strings of at most four letters, and some longer ones."""
     strings = [text for length in range(5) for text in all_texts(rules[0], length)]
