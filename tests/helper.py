@@ -90,6 +90,26 @@ def some_rules(draw, most_letters=6, worths=None):
     )
 
 
+def some_line(draw, letters, most):
+    """A line of a program, drawn: mostly of strings, letters and numbers with which something can be done."""
+    word = draw.choice(("string", "string", "letter", "least", "count", "worth", "has", "within"))
+    number = draw.randint(0, most) if draw.random() < 0.9 else draw.randint(0, 99)
+    if word == "string":
+        length = draw.randint(0, most) if draw.random() < 0.9 else draw.randint(0, 40)
+        return word, "".join(draw.choice(letters) for place in range(length))
+    if word == "letter":
+        return word, number, draw.choice(letters)
+    if word == "worth":
+        return word, "".join(draw.choice("(.)") for place in range(draw.randint(0, most)))
+    if word == "has":
+        return word, number, draw.randint(0, most)
+    return (word, draw.choice((0, 1, 5, 30, 99))) if word == "within" else (word,)
+
+
+def some_program(draw, letters="abz", most=8):
+    return tuple(some_line(draw, letters, most) for line in range(draw.randint(0, 20)))
+
+
 def strings_for(rules):
     """All strings of at most four letters, and some longer ones."""
     strings = [text for length in range(5) for text in all_texts(rules[0], length)]

@@ -103,6 +103,40 @@ class LanguageTest(unittest.TestCase):
                 if isinstance(node, ast.Name) and node.id in ALL_BUILTINS:
                     self.assertIn(node.id, BUILTINS, (path, node.lineno))
 
+    def test_no_name_is_a_method_here_and_an_attribute_there(self):
+        methods, attributes = set(), set()
+        for path in FILES:
+            for node in ast.walk(ast.parse(path.read_text())):
+                if isinstance(node, ast.ClassDef):
+                    methods |= {part.name for part in node.body if isinstance(part, ast.FunctionDef)}
+                if isinstance(node, ast.Attribute) and isinstance(node.ctx, ast.Store):
+                    attributes.add(node.attr)
+        self.assertEqual(methods & attributes, set())
+
+    def test_lists_in_the_place_of_generators(self):
+        # A class of the package has __eq__: so nothing is summed or sorted straight from a generator.
+        for path in FILES:
+            for node in ast.walk(ast.parse(path.read_text())):
+                self.assertNotIsInstance(node, (ast.GeneratorExp, ast.Yield, ast.YieldFrom), path)
+                if isinstance(node, ast.Call) and isinstance(node.func, ast.Attribute):
+                    self.assertNotEqual(node.func.attr, "sort", path)
+
+    def test_a_star_in_a_call_stands_before_a_name(self):
+        for path in FILES:
+            for node in ast.walk(ast.parse(path.read_text())):
+                if isinstance(node, ast.Starred):
+                    self.assertIsInstance(node.value, ast.Name, (path, node.lineno))
+
+    def test_errors_are_raised_and_caught_by_name(self):
+        for path in FILES:
+            for node in ast.walk(ast.parse(path.read_text())):
+                if isinstance(node, ast.Raise):
+                    self.assertIsInstance(node.exc, ast.Call, (path, node.lineno))
+                    self.assertIsInstance(node.exc.func, ast.Name, (path, node.lineno))
+                if isinstance(node, ast.ExceptHandler):
+                    named = node.type.elts if isinstance(node.type, ast.Tuple) else [node.type]
+                    self.assertTrue(all(name.id.startswith("No") for name in named), (path, node.lineno))
+
     def test_is_stands_with_truths_and_none_alone(self):
         for path in FILES:
             for node in ast.walk(ast.parse(path.read_text())):
