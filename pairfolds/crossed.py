@@ -58,7 +58,7 @@ def stretches_at(rules, string, i, j):
 
 def all_stretches(rules, string):
     """All stretches of the string, rising."""
-    places = range(len(string))
+    places = list(range(len(string)))
     return [stretch for i in places for j in places for stretch in stretches_at(rules, string, i, j)]
 
 

@@ -57,7 +57,7 @@ def held_worth(rules, string, string2, folding):
 
 def open_parts(i, nick, length):
     """The open rows from i on by which a loop with the nick goes on, on one of its sides."""
-    lasts = [nick - 1] if i < nick else range(i - 1, length - 1)
+    lasts = [nick - 1] if i < nick else list(range(i - 1, length - 1))
     return [("open", i, last) for last in lasts]
 
 

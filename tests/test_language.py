@@ -17,6 +17,8 @@ BUILTINS = {
     "list", "tuple", "dict", "set", "isinstance", "ord", "repr", "any", "all", "divmod", "super", "iter", "next",
     "ValueError", "KeyError", "IndexError",
 }
+GONE_THROUGH = {"range", "zip", "enumerate", "reversed", "items", "keys", "values"}
+TAKING = {"list", "tuple", "dict", "sorted", "sum", "any", "all", "enumerate", "zip", "min", "max"}
 BARRED_NODES = (ast.Global, ast.AsyncFunctionDef, ast.AsyncFor, ast.AsyncWith, ast.Await, ast.Div, ast.MatMult)
 ALL_BUILTINS = set(dir(__builtins__)) if not isinstance(__builtins__, dict) else set(__builtins__)
 
@@ -126,6 +128,20 @@ class LanguageTest(unittest.TestCase):
             for node in ast.walk(ast.parse(path.read_text())):
                 if isinstance(node, ast.Starred):
                     self.assertIsInstance(node.value, ast.Name, (path, node.lineno))
+
+    def test_ranges_and_the_like_are_gone_through_on_the_spot(self):
+        for path in FILES:
+            tree = ast.parse(path.read_text())
+            fine = set()
+            for node in ast.walk(tree):
+                if isinstance(node, (ast.For, ast.comprehension)):
+                    fine.add(id(node.iter))
+                elif isinstance(node, ast.Call) and getattr(node.func, "id", "") in TAKING and node.args:
+                    fine.add(id(node.args[0]))
+            for node in ast.walk(tree):
+                if isinstance(node, ast.Call):
+                    name = getattr(node.func, "id", getattr(node.func, "attr", ""))
+                    self.assertTrue(name not in GONE_THROUGH or id(node) in fine, (path, node.lineno))
 
     def test_errors_are_raised_and_caught_by_name(self):
         for path in FILES:
