@@ -32,7 +32,7 @@ def keeps_free(folding, places):
 def can_be_kept(rules, string, holds):
     """Whether a folding keeps the holds: where one does, their pairs do so themselves."""
     free, pairs = holds
-    return is_folding(rules, string, pairs) and keeps_free(pairs, free)
+    return pairs == () or (is_folding(rules, string, pairs) and keeps_free(pairs, free))
 
 
 def are_holds(rules, string, thing):
